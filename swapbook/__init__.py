@@ -1,0 +1,1 @@
+"""Swapbook: what a book of swaps makes worth the same."""

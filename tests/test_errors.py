@@ -1,0 +1,112 @@
+import unittest
+
+from swapbook import errors
+from swapbook.baskets import less, plus, weighed
+from swapbook.books import book_of, led
+from swapbook.errors import SwapError
+
+WITHOUT_FIELDS = (
+    "NotAlike", "BadWares", "TooMany", "BadBasket", "BadRoad", "Endless", "TooGreat", "BadRest", "BadScale",
+    "OtherWares", "BadBaskets", "OtherBook", "NoLine", "BadNames", "NoBook", "NoName", "NoSwap",
+)
+NAMES = WITHOUT_FIELDS + ("BadSwap", "NotKept")
+CLASSES = {name: getattr(errors, name) for name in NAMES}
+
+
+def refusal_of(ask):
+    try:
+        ask()
+    except ValueError as refusal:
+        return refusal
+    return None
+
+
+def made(name):
+    if name == "BadSwap":
+        return errors.BadSwap(3)
+    if name == "NotKept":
+        return errors.NotKept(3, None)
+    return CLASSES[name]("words")
+
+
+class Classes(unittest.TestCase):
+    def test_swap_error_stands_straight_beneath_value_error(self):
+        self.assertEqual(SwapError.__bases__, (ValueError,))
+
+    def test_each_refusal_stands_straight_beneath_swap_error(self):
+        for name in NAMES:
+            with self.subTest(name):
+                self.assertEqual(CLASSES[name].__bases__, (SwapError,))
+                self.assertEqual(CLASSES[name].__name__, name)
+
+    def test_no_refusal_stands_beneath_another_one(self):
+        for one in NAMES:
+            for other in NAMES:
+                with self.subTest(one=one, other=other):
+                    self.assertEqual(issubclass(CLASSES[one], CLASSES[other]), one == other)
+
+    def test_nothing_else_stands_beneath_swap_error(self):
+        beneath = [name for name in vars(errors)
+                   if isinstance(getattr(errors, name), type) and issubclass(getattr(errors, name), SwapError)]
+        self.assertEqual(sorted(beneath), sorted(NAMES + ("SwapError",)))
+
+    def test_a_raised_refusal_is_caught_by_its_own_class_and_those_above_alone(self):
+        for name in NAMES:
+            for catcher in NAMES + ("SwapError",):
+                with self.subTest(name=name, catcher=catcher):
+                    caught = False
+                    try:
+                        try:
+                            raise made(name)
+                        except getattr(errors, catcher):
+                            caught = True
+                    except ValueError:
+                        pass
+                    self.assertEqual(caught, catcher in (name, "SwapError"))
+
+
+class Fields(unittest.TestCase):
+    def test_bad_swap_has_its_place(self):
+        self.assertEqual(errors.BadSwap(7).place, 7)
+
+    def test_not_kept_has_its_place_and_its_scale(self):
+        scale = object()
+        refusal = errors.NotKept(4, scale)
+        self.assertEqual(refusal.place, 4)
+        self.assertIs(refusal.scale, scale)
+
+    def test_two_refusals_keep_their_fields_apart(self):
+        one = errors.BadSwap(0)
+        other = errors.BadSwap(11)
+        self.assertEqual((one.place, other.place), (0, 11))
+
+    def test_the_others_have_no_fields(self):
+        for name in WITHOUT_FIELDS:
+            with self.subTest(name):
+                self.assertEqual(vars(made(name)), {})
+
+
+class ToldRefusals(unittest.TestCase):
+    # What the program itself refuses, not what a test makes.
+    def test_each_is_of_its_own_class_and_no_other_refusals(self):
+        book = book_of(2, [[1, -1]])
+        asked = (
+            ("NotAlike", lambda: plus([1], [])),
+            ("NotAlike", lambda: less([1], [1, 2])),
+            ("NotAlike", lambda: weighed([], [1])),
+            ("BadWares", lambda: book_of(0, [])),
+            ("TooMany", lambda: book_of(1, [[1]] * 13)),
+            ("BadSwap", lambda: book_of(1, [[1, 2]])),
+            ("BadBasket", lambda: led(book, [1], [1])),
+            ("BadRoad", lambda: led(book, [1, 2], [])),
+        )
+        for name, ask in asked:
+            with self.subTest(name):
+                refusal = refusal_of(ask)
+                self.assertIsInstance(refusal, ValueError)
+                self.assertIsInstance(refusal, SwapError)
+                self.assertEqual([other for other in NAMES if isinstance(refusal, CLASSES[other])], [name])
+
+
+if __name__ == "__main__":
+    unittest.main()
