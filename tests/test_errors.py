@@ -4,6 +4,8 @@ from swapbook import errors
 from swapbook.baskets import less, plus, weighed
 from swapbook.books import book_of, led
 from swapbook.errors import SwapError
+from swapbook.homes import home, homes, road
+from swapbook.stairs import stairs_of
 
 WITHOUT_FIELDS = (
     "NotAlike", "BadWares", "TooMany", "BadBasket", "BadRoad", "Endless", "TooGreat", "BadRest", "BadScale",
@@ -99,6 +101,13 @@ class ToldRefusals(unittest.TestCase):
             ("BadSwap", lambda: book_of(1, [[1, 2]])),
             ("BadBasket", lambda: led(book, [1], [1])),
             ("BadRoad", lambda: led(book, [1, 2], [])),
+            ("NotAlike", lambda: stairs_of([[1], [1, 2]])),
+            ("BadBasket", lambda: home(book, [1])),
+            ("BadBasket", lambda: road(book, [1], [1, 2])),
+            ("BadBasket", lambda: road(book, [1, 2], [1, 2, 3])),
+            ("BadBasket", lambda: road(book, [1], [1, 2, 3])),
+            ("Endless", lambda: homes(book)),
+            ("TooGreat", lambda: homes(book_of(1, [[201]]))),
         )
         for name, ask in asked:
             with self.subTest(name):
