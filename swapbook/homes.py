@@ -1,6 +1,6 @@
 """The home of each basket, the roads between baskets, and all homes of a book."""
 
-from swapbook.baskets import less
+from swapbook.baskets import less, times
 from swapbook.books import refuse_bad_basket
 from swapbook.errors import Endless, TooGreat
 from swapbook.spans import lowered, traced
@@ -14,15 +14,20 @@ def home(book, basket):
     return lowered(basket, stairs(book).steps)
 
 
-def road(book, one, other):
-    refuse_bad_basket(book, one)
-    refuse_bad_basket(book, other)
-    # Each step that is taken off the difference takes its road off the noughts behind it: what is left of these is
+def way_to(book, basket):
+    """A road from nothing to the basket, or None where there is none."""
+    # Each step that is taken off the turned basket takes its road off the noughts behind it: what is left of these is
     # the road that leads there.
-    left = lowered(less(one, other) + [0] * len(book.swaps), traced(book.swaps))
+    left = lowered(times(basket, -1) + [0] * len(book.swaps), traced(book.swaps))
     if any(left[:book.many]):
         return None
     return left[book.many:]
+
+
+def road(book, one, other):
+    refuse_bad_basket(book, one)
+    refuse_bad_basket(book, other)
+    return way_to(book, less(other, one))
 
 
 def head_numbers(book):

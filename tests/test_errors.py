@@ -5,7 +5,10 @@ from swapbook.baskets import less, plus, weighed
 from swapbook.books import book_of, led
 from swapbook.errors import SwapError
 from swapbook.homes import home, homes, road
+from swapbook.rounds import plain, plain_road
+from swapbook.scales import Line, Rest, fair, parting
 from swapbook.stairs import stairs_of
+from swapbook.turning import turn_of
 
 WITHOUT_FIELDS = (
     "NotAlike", "BadWares", "TooMany", "BadBasket", "BadRoad", "Endless", "TooGreat", "BadRest", "BadScale",
@@ -108,6 +111,24 @@ class ToldRefusals(unittest.TestCase):
             ("BadBasket", lambda: road(book, [1], [1, 2, 3])),
             ("Endless", lambda: homes(book)),
             ("TooGreat", lambda: homes(book_of(1, [[201]]))),
+            ("BadRest", lambda: Rest(1, [1, 2])),
+            ("BadRest", lambda: Rest(0, [1, 2])),
+            ("BadRest", lambda: Rest(-2, [1, 2])),
+            ("BadBasket", lambda: Line([1, 2]).weigh([1])),
+            ("BadBasket", lambda: Line([1, 2]).levels([1, 2, 3])),
+            ("BadBasket", lambda: Rest(2, [1, 2]).weigh([1, 2, 3])),
+            ("BadBasket", lambda: Rest(2, [1, 2]).levels([1])),
+            ("BadScale", lambda: fair(book, Line([1]))),
+            ("BadScale", lambda: fair(book, Rest(2, [1, 2, 3]))),
+            ("BadBasket", lambda: parting(book, [1], [1, 2])),
+            ("BadBasket", lambda: parting(book, [1, 2], [1, 2, 3])),
+            ("BadBasket", lambda: parting(book, [1], [1, 2, 3])),
+            ("BadBasket", lambda: turn_of(book, [1])),
+            ("BadRoad", lambda: plain(book, [])),
+            ("BadRoad", lambda: plain(book, [1, 2])),
+            ("BadBasket", lambda: plain_road(book, [1], [1, 2])),
+            ("BadBasket", lambda: plain_road(book, [1, 2], [1, 2, 3])),
+            ("BadBasket", lambda: plain_road(book, [1], [1, 2, 3])),
         )
         for name, ask in asked:
             with self.subTest(name):
