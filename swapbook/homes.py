@@ -1,9 +1,9 @@
 """The home of each basket, the roads between baskets, and all homes of a book."""
 
-from swapbook.baskets import less, times
+from swapbook.baskets import less
 from swapbook.books import refuse_bad_basket
 from swapbook.errors import Endless, TooGreat
-from swapbook.spans import lowered, traced
+from swapbook.spans import counted, lowered, traced
 from swapbook.stairs import stairs
 
 MOST_HOMES = 200
@@ -16,12 +16,7 @@ def home(book, basket):
 
 def way_to(book, basket):
     """A road from nothing to the basket, or None where there is none."""
-    # Each step that is taken off the turned basket takes its road off the noughts behind it: what is left of these is
-    # the road that leads there.
-    left = lowered(times(basket, -1) + [0] * len(book.swaps), traced(book.swaps))
-    if any(left[:book.many]):
-        return None
-    return left[book.many:]
+    return counted(traced(book.swaps), basket, len(book.swaps))
 
 
 def road(book, one, other):

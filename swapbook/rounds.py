@@ -3,12 +3,12 @@
 from swapbook.baskets import less
 from swapbook.books import refuse_bad_basket, refuse_bad_road
 from swapbook.homes import way_to
-from swapbook.spans import head_of, lowered, traced
+from swapbook.spans import lowered, tails, traced
 
 
 def rounds(book):
     # Rows with only noughts in front lead nowhere: the counts behind are the stairs of all roads that do so.
-    return [row[book.many:] for row in traced(book.swaps) if head_of(row) >= book.many]
+    return tails(traced(book.swaps), book.many)
 
 
 def plain(book, road):

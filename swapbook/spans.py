@@ -89,15 +89,40 @@ def climbed(rows):
     return steps
 
 
+def marked(rows):
+    """The rows with, behind each of them, how many times each row is in it."""
+    longer = []
+    for place, row in enumerate(rows):
+        counts = [0] * len(rows)
+        counts[place] = 1
+        longer.append(row + counts)
+    return longer
+
+
+def padded(rows, many):
+    """The rows with so many noughts behind each of them."""
+    return [row + [0] * many for row in rows]
+
+
 def traced(rows):
     """The stairs of the rows with, behind each row, how many times each row is in it.
 
     What stands in front of these counts is then the stairs of the rows; where only noughts stand in front, the counts
     are the stairs of all counts by which the rows come to nothing.
     """
-    marked = []
-    for place, row in enumerate(rows):
-        counts = [0] * len(rows)
-        counts[place] = 1
-        marked.append(row + counts)
-    return climbed(marked)
+    return climbed(marked(rows))
+
+
+def tails(steps, many):
+    """What stands behind the first so many numbers, of those steps that have only noughts there."""
+    return [step[many:] for step in steps if head_of(step) >= many]
+
+
+def counted(steps, basket, many):
+    """So many counts, as they stand behind the steps, by which steps come to the basket; None where none do."""
+    # Each step that is taken off the turned basket takes its counts off the noughts behind it: what is left of these
+    # are the counts that come to it.
+    left = lowered(times(basket, -1) + [0] * many, steps)
+    if any(left[:len(basket)]):
+        return None
+    return left[len(basket):]

@@ -3,10 +3,13 @@ import unittest
 from swapbook import errors
 from swapbook.baskets import less, plus, weighed
 from swapbook.books import book_of, led
+from swapbook.desk import Desk
 from swapbook.errors import SwapError
 from swapbook.homes import home, homes, road
+from swapbook.pairs import joined, met, within
 from swapbook.rounds import plain, plain_road
 from swapbook.scales import Line, Rest, fair, parting
+from swapbook.senders import Sender
 from swapbook.stairs import stairs_of
 from swapbook.turning import turn_of
 
@@ -94,7 +97,14 @@ class Fields(unittest.TestCase):
 class ToldRefusals(unittest.TestCase):
     # What the program itself refuses, not what a test makes.
     def test_each_is_of_its_own_class_and_no_other_refusals(self):
-        book = book_of(2, [[1, -1]])
+        book, other = book_of(2, [[1, -1]]), book_of(1, [[2]])
+        sender = Sender(book_of(2, []), other, [[1], [2]])
+        desk = Desk()
+        desk.tell("wares egg hen")
+        full = Desk()
+        full.tell("wares egg hen")
+        for swap in range(12):
+            full.tell("swap egg = hen")
         asked = (
             ("NotAlike", lambda: plus([1], [])),
             ("NotAlike", lambda: less([1], [1, 2])),
@@ -129,13 +139,34 @@ class ToldRefusals(unittest.TestCase):
             ("BadBasket", lambda: plain_road(book, [1], [1, 2])),
             ("BadBasket", lambda: plain_road(book, [1, 2], [1, 2, 3])),
             ("BadBasket", lambda: plain_road(book, [1], [1, 2, 3])),
+            ("OtherWares", lambda: joined(book, other)),
+            ("OtherWares", lambda: met(book, other)),
+            ("OtherWares", lambda: within(other, book)),
+            ("OtherWares", lambda: joined(book_of(1, [[1]] * 12), book_of(2, [[1, 1]] * 12))),
+            ("TooMany", lambda: joined(book_of(1, [[1]] * 12), other)),
+            ("BadBaskets", lambda: Sender(book, other, [[1]])),
+            ("BadBaskets", lambda: Sender(book, other, [[1], [1, 2]])),
+            ("NotKept", lambda: Sender(book, other, [[1], [2]])),
+            ("BadBasket", lambda: sender.sent([1])),
+            ("BadBasket", lambda: sender.back([1, 2])),
+            ("BadBasket", lambda: sender.bar([])),
+            ("OtherBook", lambda: sender.behind(sender)),
+            ("NoLine", lambda: Desk().tell("help")),
+            ("NoLine", lambda: desk.tell("home 0 egg")),
+            ("BadNames", lambda: Desk().tell("wares nothing")),
+            ("BadNames", lambda: desk.tell("wares a b c d e f g h i")),
+            ("NoBook", lambda: Desk().tell("home egg")),
+            ("NoName", lambda: desk.tell("home goat")),
+            ("NoSwap", lambda: desk.tell("drop 0")),
+            ("TooMany", lambda: full.tell("swap egg = hen")),
         )
         for name, ask in asked:
             with self.subTest(name):
                 refusal = refusal_of(ask)
                 self.assertIsInstance(refusal, ValueError)
                 self.assertIsInstance(refusal, SwapError)
-                self.assertEqual([other for other in NAMES if isinstance(refusal, CLASSES[other])], [name])
+                self.assertEqual([one for one in NAMES if isinstance(refusal, CLASSES[one])], [name])
+        self.assertEqual(sorted({name for name, ask in asked}), sorted(NAMES))
 
 
 if __name__ == "__main__":
